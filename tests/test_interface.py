@@ -1,0 +1,99 @@
+"""The names, arguments and places of the interface, as the document lists them."""
+
+import importlib
+import inspect
+import unittest
+
+FUNCTIONS = {
+    "hedgejoin.shore": [
+        "is_name(text)",
+        "check_name(text)",
+        "step(size, at, *, by=1)",
+        "span(size, first, last)",
+        "in_span(size, at, first, last)",
+        "crossed(one, two)",
+    ],
+    "hedgejoin.ponds": [
+        "sub_pond(pond, lots)",
+    ],
+    "hedgejoin.partings": [
+        "parting_of(pond, groups)",
+        "check_parting(pond, parting)",
+        "first_crossing(pond, parting)",
+        "first_strife(pond, parting)",
+        "check_world(pond, parting)",
+        "is_world(pond, parting)",
+        "world_of(pond, groups)",
+        "single_world(pond)",
+        "one_world(pond)",
+        "format_parting(pond, parting)",
+        "parse_parting(pond, text)",
+        "code(pond, parting)",
+        "from_code(pond, numbers)",
+    ],
+}
+
+METHODS = {
+    ("hedgejoin.ponds", "Pond"): [
+        "__init__(names, *, strifes=())",
+        "__len__()",
+        "__iter__()",
+        "position(name)",
+        "follows(name, *, by=1)",
+        "pair_of(x, y)",
+        "at_strife(x, y)",
+        "bare()",
+        "with_strife(x, y)",
+        "without_strife(x, y)",
+        "same_as(other)",
+    ],
+}
+
+PROPERTIES = {
+    ("hedgejoin.ponds", "Pond"): ["names", "strifes"],
+}
+
+
+def arguments_of(function):
+    """Name, way of passing and default of each argument; annotations do not matter."""
+    return [
+        (given.name, given.kind, type(given.default), given.default)
+        for given in inspect.signature(function).parameters.values()
+    ]
+
+
+def arguments_in(heading):
+    listed = heading[heading.index("(") + 1:heading.rindex(")")]
+    return arguments_of(eval(f"lambda {listed}: None"))
+
+
+class TestInterface(unittest.TestCase):
+    def test_functions_stand_in_their_file_with_their_arguments(self):
+        for place, headings in FUNCTIONS.items():
+            module = importlib.import_module(place)
+            for heading in headings:
+                with self.subTest(place=place, heading=heading):
+                    function = getattr(module, heading[:heading.index("(")])
+                    self.assertTrue(inspect.isfunction(function))
+                    self.assertEqual(function.__module__, place)
+                    self.assertEqual(arguments_of(function), arguments_in(heading))
+
+    def test_methods_stand_in_their_class_with_their_arguments(self):
+        for (place, name), headings in METHODS.items():
+            owner = getattr(importlib.import_module(place), name)
+            self.assertEqual(owner.__module__, place)
+            for heading in headings:
+                with self.subTest(owner=name, heading=heading):
+                    method = vars(owner)[heading[:heading.index("(")]]
+                    self.assertEqual(arguments_of(method)[1:], arguments_in(heading))
+
+    def test_properties_stand_in_their_class(self):
+        for (place, name), listed in PROPERTIES.items():
+            owner = getattr(importlib.import_module(place), name)
+            for heading in listed:
+                with self.subTest(owner=name, heading=heading):
+                    self.assertIsInstance(vars(owner)[heading], property)
+
+
+if __name__ == "__main__":
+    unittest.main()
