@@ -42,7 +42,7 @@ def crossed(one, two):
     low, high = sorted(one)
     if low in two or high in two:
         return False
-    # Equal integers of one pair fail here: both or none of the pair `two` are between.
+    # If a pair holds one integer twice, both integers of `two` are between or none is.
     return (low < two[0] < high) != (low < two[1] < high)
 
 

@@ -18,6 +18,51 @@ EXAMPLES = {
 >>> code(pond, (("c", "b"), ("a",)))
 (0, 1, 0)
 ''',
+    "moves.py": '''
+>>> from hedgejoin.moves import Likeness
+>>> (Likeness(5, shift=1) * Likeness(5, shift=3, flipped=True)).key
+(4, True)
+>>> (~Likeness(5, shift=1)).key
+(4, False)
+''',
+    "point 21": '''
+>>> from hedgejoin.ponds import Pond
+>>> from hedgejoin.rows import ways_at
+>>> pond = Pond(["a", "b", "c"])
+>>> for way in ways_at(pond, (("a",), ("b",), ("c",)), [("a", "b"), ("b", "c")], 0): print(way)
+(('a', 'b'), ('a', 'c'))
+(('a', 'c'), ('a', 'b'))
+(('b', 'c'), ('a', 'b'))
+''',
+    "deeds.py": '''
+>>> from hedgejoin.ponds import Pond
+>>> from hedgejoin.deeds import deeds, refused_deeds
+>>> pond = Pond(["a", "b", "c", "d"], strifes=[("a", "b")])
+>>> world = (("a", "c"), ("b",), ("d",))
+>>> deeds(pond, world)
+[('a', 'd')]
+>>> refused_deeds(pond, world)
+[(('a', 'b'), ('strife', ('a', 'b'))), (('b', 'd'), ('crossed', ('a', 'c')))]
+''',
+    "point 23": '''
+>>> from hedgejoin.ponds import Pond
+>>> from hedgejoin.mirror import mirror
+>>> pond = Pond(["a", "b", "c"])
+>>> mirror(pond, (("a", "b"), ("c",)))
+(('a',), ('b', 'c'))
+>>> mirror(pond, (("a",), ("b", "c")))
+(('a', 'c'), ('b',))
+''',
+    "mirror.py": '''
+>>> from hedgejoin.ponds import Pond
+>>> from hedgejoin.mirror import fields_at, mirror
+>>> pond = Pond(["a", "b", "c", "d"])
+>>> world = (("a", "c"), ("b",), ("d",))
+>>> mirror(pond, world)
+(('a', 'b'), ('c', 'd'))
+>>> fields_at(pond, world, "d")
+[('a', 'c'), ('d',)]
+''',
 }
 
 

@@ -31,13 +31,63 @@ FUNCTIONS = {
         "code(pond, parting)",
         "from_code(pond, numbers)",
     ],
+    "hedgejoin.moves": [
+        "likeness_of(key, *, size)",
+        "move(pond, parting, likeness)",
+        "move_pond(pond, likeness)",
+        "restart(pond, parting, lot)",
+        "same_place(pond, parting, other_pond, other_parting)",
+    ],
+    "hedgejoin.fields": [
+        "field_of(pond, parting, lot)",
+        "next_in_field(pond, parting, lot, *, back=False)",
+        "are_together(pond, parting, x, y)",
+        "groups_cross(pond, first, second)",
+        "within(pond, lower, upper)",
+        "first_parted(pond, lower, upper)",
+        "parts_of(pond, lower, upper)",
+        "cut(pond, first, second)",
+        "chain(pond, first, second)",
+        "hedges(pond, parting)",
+        "from_hedges(pond, pairs)",
+        "restrict(pond, parting, lots)",
+        "take_out(pond, parting, lots)",
+        "sizes_of(pond, parting)",
+    ],
+    "hedgejoin.deeds": [
+        "crossed_fields(pond, world, x, y)",
+        "refusal(pond, world, x, y)",
+        "join(pond, world, x, y)",
+        "plain_deed(pond, world, x, y)",
+        "deeds(pond, world)",
+        "refused_deeds(pond, world)",
+        "pasts(pond, world)",
+    ],
+    "hedgejoin.rows": [
+        "replay(pond, world, row)",
+        "trace(pond, world, row)",
+        "steps(pond, world, row)",
+        "plain_row(pond, world, row)",
+        "is_history(pond, start, end, row)",
+        "same_history(pond, world, first, second)",
+        "ways_at(pond, world, row, at)",
+        "exchange(pond, world, row, at, *, by=1)",
+    ],
+    "hedgejoin.mirror": [
+        "mirror(pond, world)",
+        "unmirror(pond, paths)",
+        "is_mirror(pond, world, paths)",
+        "path_of(pond, world, gate)",
+        "gates_paper(pond, world, first, second)",
+        "next_gate(pond, world, gate)",
+        "fields_at(pond, world, gate)",
+        "paths_at(pond, world, lot)",
+    ],
 }
 
 METHODS = {
     ("hedgejoin.ponds", "Pond"): [
         "__init__(names, *, strifes=())",
-        "__len__()",
-        "__iter__()",
         "position(name)",
         "follows(name, *, by=1)",
         "pair_of(x, y)",
@@ -47,10 +97,20 @@ METHODS = {
         "without_strife(x, y)",
         "same_as(other)",
     ],
+    ("hedgejoin.moves", "Likeness"): [
+        "__init__(size, *, shift=0, flipped=False)",
+    ],
+}
+
+# Their arguments are passed by position, so only that they stand there is promised.
+OPERATORS = {
+    ("hedgejoin.ponds", "Pond"): ["__len__", "__iter__"],
+    ("hedgejoin.moves", "Likeness"): ["__call__", "__mul__", "__invert__"],
 }
 
 PROPERTIES = {
     ("hedgejoin.ponds", "Pond"): ["names", "strifes"],
+    ("hedgejoin.moves", "Likeness"): ["shift", "flipped", "key"],
 }
 
 
@@ -86,6 +146,13 @@ class TestInterface(unittest.TestCase):
                 with self.subTest(owner=name, heading=heading):
                     method = vars(owner)[heading[:heading.index("(")]]
                     self.assertEqual(arguments_of(method)[1:], arguments_in(heading))
+
+    def test_operators_stand_in_their_class(self):
+        for (place, name), listed in OPERATORS.items():
+            owner = getattr(importlib.import_module(place), name)
+            for operator in listed:
+                with self.subTest(owner=name, operator=operator):
+                    self.assertTrue(inspect.isfunction(vars(owner)[operator]))
 
     def test_properties_stand_in_their_class(self):
         for (place, name), listed in PROPERTIES.items():

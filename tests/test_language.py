@@ -45,6 +45,31 @@ class TestLanguage(unittest.TestCase):
             used = {node.id for node in ast.walk(tree) if isinstance(node, ast.Name)}
             self.assertLessEqual(used & names, BUILTINS, path)
 
+    def test_no_builtin_gets_another_meaning(self):
+        names = set(dir(builtins))
+        for path, tree in trees():
+            for node in ast.walk(tree):
+                if isinstance(node, ast.Name) and not isinstance(node.ctx, ast.Load):
+                    self.assertNotIn(node.id, names, path)
+                if isinstance(node, ast.arg):
+                    self.assertNotIn(node.arg, names, path)
+                if isinstance(node, (ast.FunctionDef, ast.ClassDef)):
+                    self.assertNotIn(node.name, names, path)
+
+    def test_no_local_name_is_that_of_a_class_or_an_import(self):
+        for path, tree in trees():
+            bound = {node.name for node in tree.body if isinstance(node, ast.ClassDef)}
+            for node in tree.body:
+                if isinstance(node, ast.ImportFrom):
+                    bound |= {name.name for name in node.names}
+            for function in ast.walk(tree):
+                if isinstance(function, ast.FunctionDef):
+                    for node in ast.walk(function):
+                        if isinstance(node, ast.Name) and not isinstance(node.ctx, ast.Load):
+                            self.assertNotIn(node.id, bound, path)
+                        if isinstance(node, ast.arg):
+                            self.assertNotIn(node.arg, bound, path)
+
     def test_sizes_and_signs(self):
         for path, tree in trees():
             text = path.read_text()
