@@ -2,7 +2,7 @@
 
 import unittest
 
-from hedgejoin.errors import HedgeError
+from hedgejoin.errors import AtStrife, BadParting, Crossing, HedgeError
 from hedgejoin.ponds import Pond
 
 HUGE = 10 ** 5000
@@ -69,6 +69,11 @@ class PromiseCase(unittest.TestCase):
             for name, value in attributes.items():
                 self.assertEqual(shown(getattr(caught.exception, name)), shown(value))
         self.assertEqual(shown(passed), before)
+
+    def refuses_bad_worlds(self, call, before, after=()):
+        """The call raises the errors of a world of SIX for the argument between the given ones."""
+        for parting, kind, attributes in BAD_WORLDS:
+            self.refuses(kind, attributes, call, *before, parting, *after)
 
 
 def all_partings(pond):
@@ -145,3 +150,111 @@ def code_of(pond, parting):
 def small_ponds(most):
     """Ponds of 1 lot up to `most`, their names not in the order of the alphabet."""
     return [Pond(["c", "a", "e", "b", "f", "d"][:many]) for many in range(1, most + 1)]
+
+
+def lots_after(pond, first, last):
+    """Point 7: the lots after the first up to the last, going around."""
+    met = []
+    at = pond.names.index(first)
+    while not met or met[-1] != last:
+        at = (at + 1) % len(pond.names)
+        met.append(pond.names[at])
+    return met
+
+
+def on_one_path(pond, world, first, second):
+    """Point 22 as it stands, for two different gates, the first one earlier."""
+    inside = lots_after(pond, first, second)
+    return not any(
+        any(lot in inside for lot in field) and any(lot not in inside for lot in field)
+        for field in world
+    )
+
+
+def paths_by_words(pond, world):
+    paths = []
+    for gate in pond.names:
+        for at, path in enumerate(paths):
+            if on_one_path(pond, world, path[0], gate):
+                paths[at] = path + (gate,)
+                break
+        else:
+            paths.append((gate,))
+    return tuple(paths)
+
+
+def sorted_parting(pond, groups):
+    """The groups as the fields of a parting, in the order of point 11."""
+    fields = [tuple([lot for lot in pond.names if lot in group]) for group in groups]
+    return tuple(sorted(fields, key=lambda field: pond.names.index(field[0])))
+
+
+def joined(pond, parting, x, y):
+    """The parting in which the fields of x and y, which are apart, are one; it may cross."""
+    both = [lot for field in parting if x in field or y in field for lot in field]
+    rest = [field for field in parting if x not in field and y not in field]
+    return sorted_parting(pond, [*rest, both])
+
+
+def deeds_from(pond, world):
+    """Point 19: each plain deed that stands, in pair order, with the world after it."""
+    found = []
+    for at, one in enumerate(world):
+        for two in world[at + 1:]:
+            after = joined(pond, world, one[0], two[0])
+            if is_uncrossed(pond, after) and not has_strife(pond, after):
+                found.append(((one[0], two[0]), after))
+    return found
+
+
+def histories_by_words(pond, start, end):
+    """Point 20: all plain rows from start to end, sorted, found by doing every deed."""
+    if start == end:
+        return [[]]
+    return [
+        [deed, *row]
+        for deed, after in deeds_from(pond, start)
+        if len(after) >= len(end)
+        for row in histories_by_words(pond, after, end)
+    ]
+
+
+SIX = Pond(["f", "a", "e", "b", "d", "c"], strifes=[("e", "d"), ("f", "c")])
+SINGLES = (("f",), ("a",), ("e",), ("b",), ("d",), ("c",))
+
+# Each is no world of SIX, with the error and its attributes.
+BAD_WORLDS = [
+    ((("a",), ("f", "e"), ("b", "d"), ("c",)), BadParting, {}),
+    ((("f", "e"), ("a",), ("d", "b"), ("c",)), BadParting, {}),
+    ((("f", "e"), ("a",), ("b", "d")), BadParting, {}),
+    ((), BadParting, {}),
+    ((("f", "e"), ("a", "b", "d"), ("c",)), Crossing, {"lots": ("f", "a", "e", "b")}),
+    ((("f", "b"), ("a",), ("e", "d"), ("c",)), Crossing, {"lots": ("f", "e", "b", "d")}),
+    ((("f",), ("a",), ("e", "b", "d"), ("c",)), AtStrife, {"pair": ("e", "d")}),
+    ((("f", "a", "e", "b", "d", "c"),), AtStrife, {"pair": ("f", "c")}),
+]
+
+WITH_STRIFES = [
+    Pond(["b", "a"], strifes=[("a", "b")]),
+    Pond(["c", "a", "b"], strifes=[("a", "b")]),
+    Pond(["c", "a", "d", "b"], strifes=[("a", "b"), ("c", "d")]),
+    Pond(["c", "a", "e", "b", "d"], strifes=[("c", "d"), ("a", "b"), ("b", "d")]),
+]
+
+
+def all_cases(most):
+    """Each small pond, with and without strifes, with each of its worlds."""
+    ponds = small_ponds(most) + [pond for pond in WITH_STRIFES if len(pond.names) <= most]
+    return [(pond, world) for pond in ponds for world in all_worlds(pond)]
+
+
+def all_roads(most):
+    """Each small pond, with each two worlds of which the first lies within the second."""
+    return [
+        (pond, lower, upper)
+        for pond in [*small_ponds(most), *WITH_STRIFES]
+        if len(pond.names) <= most
+        for lower in all_worlds(pond)
+        for upper in all_worlds(pond)
+        if lies_within(lower, upper)
+    ]

@@ -63,6 +63,38 @@ EXAMPLES = {
 >>> fields_at(pond, world, "d")
 [('a', 'c'), ('d',)]
 ''',
+    "roads.py": '''
+>>> from hedgejoin.ponds import Pond
+>>> from hedgejoin.roads import answer
+>>> pond = Pond(["a", "b", "c", "d"])
+>>> start = (("a",), ("b", "d"), ("c",))
+>>> answer(pond, start, (("a", "b", "c", "d"),))
+('history', (('a', 'b'), ('a', 'c')))
+>>> answer(pond, start, (("a", "c"), ("b", "d")))
+('crossing', ('a', 'b', 'c', 'd'))
+>>> answer(pond, start, (("a", "b"), ("c", "d")))
+('parted', ('b', 'd'))
+''',
+    "counts.py": '''
+>>> from hedgejoin.counts import count_by_sizes, count_worlds
+>>> count_worlds(4)
+14
+>>> count_worlds(4, fields=2)
+6
+>>> count_by_sizes([2, 2])
+2
+''',
+    "smalls.py": '''
+>>> from hedgejoin.ponds import Pond
+>>> from hedgejoin.smalls import inner_paths, small_ponds
+>>> pond = Pond(["a", "b", "c", "d", "e"])
+>>> lower = (("a",), ("b", "d"), ("c",), ("e",))
+>>> upper = (("a", "b", "c", "d"), ("e",))
+>>> inner_paths(pond, lower, upper)
+(('a', 'd'), ('b', 'c'), ('e',))
+>>> small_ponds(pond, lower, upper)
+[('a', 'b'), ('b', 'c'), ('e',)]
+''',
 }
 
 

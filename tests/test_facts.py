@@ -14,23 +14,9 @@ from hedgejoin.partings import check_world, is_world, one_world, single_world, w
 from hedgejoin.ponds import Pond, sub_pond
 from hedgejoin.rows import exchange, is_history, plain_row, replay, same_history, trace, ways_at
 from tests.helpers import (
-    all_partings, all_worlds, is_uncrossed, pairs_in_order, shown, small_ponds, spoil,
-    uncrossed_partings,
+    WITH_STRIFES, all_cases, all_partings, all_worlds, is_uncrossed, pairs_in_order, shown,
+    small_ponds, spoil, uncrossed_partings,
 )
-
-WITH_STRIFES = [
-    Pond(["b", "a"], strifes=[("a", "b")]),
-    Pond(["c", "a", "b"], strifes=[("a", "b")]),
-    Pond(["c", "a", "d", "b"], strifes=[("a", "b"), ("c", "d")]),
-    Pond(["c", "a", "e", "b", "d"], strifes=[("c", "d"), ("a", "b"), ("b", "d")]),
-]
-
-
-def all_cases(most):
-    """Each small pond, with and without strifes, with each of its worlds."""
-    ponds = small_ponds(most) + [pond for pond in WITH_STRIFES if len(pond) <= most]
-    return [(pond, world) for pond in ponds for world in all_worlds(pond)]
-
 
 def way_through(pond, world, start, end):
     """The nodes of the tree from one field to another: fields and paths by turns."""

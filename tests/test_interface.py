@@ -83,6 +83,43 @@ FUNCTIONS = {
         "fields_at(pond, world, gate)",
         "paths_at(pond, world, lot)",
     ],
+    "hedgejoin.tree": [
+        "way(pond, world, x, y)",
+        "is_way(pond, world, x, y, items)",
+        "distance(pond, world, x, y)",
+        "bring_together(pond, world, x, y)",
+        "tree_rows(pond, world)",
+        "from_tree(pond, pairs)",
+        "deed_path(pond, world, x, y)",
+        "parted_path(pond, world, x, y)",
+        "branches(pond, world, lot)",
+    ],
+    "hedgejoin.roads": [
+        "leads(pond, start, end)",
+        "deeds_needed(pond, start, end)",
+        "next_deeds(pond, start, end)",
+        "history(pond, start, end)",
+        "last_worlds(pond, start, end)",
+        "history_through(pond, start, end, stops)",
+        "answer(pond, start, goal)",
+        "is_answer(pond, start, goal, reply)",
+    ],
+    "hedgejoin.counts": [
+        "count_worlds(size, *, fields=None)",
+        "count_by_sizes(sizes)",
+        "rank_world(pond, parting, *, alike=False)",
+        "world_at(pond, rank, *, fields=None)",
+        "all_worlds(pond, *, fields=None)",
+        "next_world(pond, parting)",
+    ],
+    "hedgejoin.smalls": [
+        "inner_paths(pond, lower, upper)",
+        "small_ponds(pond, lower, upper)",
+        "split_world(pond, lower, upper, world)",
+        "unite_world(pond, lower, upper, worlds)",
+        "deed_small(pond, lower, upper, world, x, y)",
+        "small_deed(pond, lower, upper, world, x, y)",
+    ],
 }
 
 METHODS = {

@@ -10,7 +10,8 @@ from hedgejoin.mirror import (
 )
 from hedgejoin.ponds import Pond
 from tests.helpers import (
-    PromiseCase, all_partings, is_together, pairs_in_order, small_ponds, uncrossed_partings,
+    PromiseCase, all_partings, is_together, lots_after, pairs_in_order, paths_by_words, small_ponds,
+    uncrossed_partings,
 )
 
 SIX = Pond(["f", "a", "e", "b", "d", "c"], strifes=[("e", "d"), ("f", "c")])
@@ -23,37 +24,6 @@ ALONE = Pond(["a"])
 NO_PARTING = (("a",), ("f", "e"), ("b", "d"), ("c",))
 CROSSING = (("f", "e"), ("a", "b", "d"), ("c",))
 WITH_STRIFE = (("f",), ("a",), ("e", "b", "d"), ("c",))
-
-
-def lots_after(pond, first, last):
-    """Point 7: the lots after the first up to the last, going around."""
-    met = []
-    at = pond.names.index(first)
-    while not met or met[-1] != last:
-        at = (at + 1) % len(pond.names)
-        met.append(pond.names[at])
-    return met
-
-
-def on_one_path(pond, world, first, second):
-    """Point 22 as it stands, for two different gates, the first one earlier."""
-    inside = lots_after(pond, first, second)
-    return not any(
-        any(lot in inside for lot in field) and any(lot not in inside for lot in field)
-        for field in world
-    )
-
-
-def expected_paths(pond, world):
-    paths = []
-    for gate in pond.names:
-        for at, path in enumerate(paths):
-            if on_one_path(pond, world, path[0], gate):
-                paths[at] = path + (gate,)
-                break
-        else:
-            paths.append((gate,))
-    return tuple(paths)
 
 
 def refuses_no_world(case, entry, *more):
@@ -77,7 +47,7 @@ class TestMirror(PromiseCase):
     def test_by_its_words(self):
         for pond in small_ponds(6):
             for world in uncrossed_partings(pond):
-                self.assertEqual(mirror(pond, world), expected_paths(pond, world))
+                self.assertEqual(mirror(pond, world), paths_by_words(pond, world))
 
     def test_faults_of_worlds(self):
         refuses_no_world(self, mirror)
@@ -104,7 +74,7 @@ class TestMirror(PromiseCase):
             names = pond.names
             for paths in uncrossed_partings(pond):
                 world = unmirror(pond, paths)
-                self.assertEqual(expected_paths(pond, world), paths)
+                self.assertEqual(paths_by_words(pond, world), paths)
                 for low, high in itertools.combinations(range(len(pond)), 2):
                     gates = names[low:high]
                     parted = any(
@@ -221,7 +191,7 @@ class TestMeeting(PromiseCase):
     def test_by_their_words(self):
         for pond in small_ponds(5):
             for world in uncrossed_partings(pond):
-                paths = expected_paths(pond, world)
+                paths = paths_by_words(pond, world)
                 for lot in pond.names:
                     path = [path for path in paths if lot in path][0]
                     field = [field for field in world if lot in field][0]
