@@ -9,7 +9,7 @@ fields matters for what can follow.
 
 from math import comb, factorial
 
-from hedgejoin.errors import OutOfRange, TooMany
+from hedgejoin.limits import check_most, check_range
 from hedgejoin.partings import by_marks, check_uncrossed, marks_of, strife_of
 from hedgejoin.shore import MOST_LOTS
 
@@ -18,8 +18,7 @@ MOST_LISTED = 7
 
 def count_worlds(size, *, fields=None):
     """The number of uncrossed partings of a pond, or of those with so many fields."""
-    if size < 0 or size > MOST_LOTS:
-        raise OutOfRange(size, MOST_LOTS + 1)
+    check_range(size, MOST_LOTS + 1)
     if fields is None:
         return sum([count_with(size, many) for many in range(size + 1)])
     return count_with(size, fields)
@@ -37,8 +36,7 @@ def count_with(size, fields):
 def count_by_sizes(sizes):
     """The number of uncrossed partings whose fields have these numbers of lots."""
     total = sum(sizes)
-    if total > MOST_LOTS:
-        raise TooMany(total, MOST_LOTS)
+    check_most(total, MOST_LOTS)
     many = factorial(total) // factorial(total + 1 - len(sizes))
     for size in range(1, total + 1):
         many = many // factorial(len([other for other in sizes if other == size]))
@@ -90,9 +88,7 @@ def count_ways(reachable, rest, fresh, known):
 
 def world_at(pond, rank, *, fields=None):
     """The uncrossed parting with this rank, or the one among those with so many fields."""
-    limit = count_worlds(len(pond), fields=fields)
-    if rank < 0 or rank >= limit:
-        raise OutOfRange(rank, limit)
+    check_range(rank, count_worlds(len(pond), fields=fields))
     return by_marks(pond, marks_at(len(pond), rank, fields))
 
 
@@ -113,8 +109,7 @@ def marks_at(size, rank, fields):
 
 def all_worlds(pond, *, fields=None):
     """All worlds of the pond, or those with so many fields, in code order."""
-    if len(pond) > MOST_LISTED:
-        raise TooMany(len(pond), MOST_LISTED)
+    check_most(len(pond), MOST_LISTED)
     worlds = [by_marks(pond, marks) for marks in all_marks(len(pond))]
     return [
         world

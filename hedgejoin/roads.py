@@ -108,7 +108,7 @@ def is_answer(pond, start, goal, reply):
         return is_crossing_paper(pond, goal, thing)
     if word == "strife":
         return is_strife_paper(pond, goal, thing)
-    return word == "parted" and is_parted_paper(pond, start, goal, thing)
+    return word == "parted" and is_parted_paper(start, goal, thing)
 
 
 def does_lead(pond, start, goal, row):
@@ -141,7 +141,7 @@ def is_strife_paper(pond, goal, lots):
     return pond.at_strife(x, y) and y in holder(goal, x)
 
 
-def is_parted_paper(pond, start, goal, lots):
+def is_parted_paper(start, goal, lots):
     """True if these are two lots that are together in the start and apart in the goal."""
     if len(lots) != 2:
         return False

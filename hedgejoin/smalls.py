@@ -1,6 +1,6 @@
 """Small ponds: the choices that are free between a world and another one over it."""
 
-from hedgejoin.deeds import cause_of, joined_world, refuse
+from hedgejoin.deeds import join
 from hedgejoin.errors import BadSplit
 from hedgejoin.fields import holder, need_within, neighbor
 from hedgejoin.partings import by_marks, chained, check_world, is_world, marks_of
@@ -68,11 +68,16 @@ def unite_world(pond, lower, upper, worlds):
 
 def check_split(smalls, worlds):
     """Raise BadSplit if these are not one world for each small pond."""
-    if len(worlds) != len(smalls):
-        raise BadSplit(min(len(worlds), len(smalls)))
+    check_number(smalls, worlds)
     for place, lots in enumerate(smalls):
         if not is_world(Pond(lots), worlds[place]):
             raise BadSplit(place)
+
+
+def check_number(smalls, given):
+    """Raise BadSplit if there is not one item for each small pond."""
+    if len(given) != len(smalls):
+        raise BadSplit(min(len(given), len(smalls)))
 
 
 def united_world(pond, lower, worlds):
@@ -83,16 +88,8 @@ def united_world(pond, lower, worlds):
 def deed_small(pond, lower, upper, world, x, y):
     """The index of the small pond to which the deed belongs."""
     check_between(pond, lower, upper, world)
-    check_safe(pond, upper, world, x, y)
+    need_within(pond, join(pond, world, x, y), upper)
     return small_index(small_lots(pond, lower, upper), world, x, y)
-
-
-def check_safe(pond, upper, world, x, y):
-    """Raise the error of a deed that is refused, or NotWithin if it does not stay within `upper`."""
-    cause = cause_of(pond, world, x, y)
-    if cause is not None:
-        refuse(cause)
-    need_within(pond, joined_world(pond, world, x, y), upper)
 
 
 def small_index(smalls, world, x, y):

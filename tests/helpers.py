@@ -2,7 +2,7 @@
 
 import unittest
 
-from hedgejoin.errors import AtStrife, BadParting, Crossing, HedgeError
+from hedgejoin.errors import AtStrife, BadParting, Crossing, HedgeError, NotWithin
 from hedgejoin.ponds import Pond
 
 HUGE = 10 ** 5000
@@ -74,6 +74,15 @@ class PromiseCase(unittest.TestCase):
         """The call raises the errors of a world of SIX for the argument between the given ones."""
         for parting, kind, attributes in BAD_WORLDS:
             self.refuses(kind, attributes, call, *before, parting, *after)
+
+    def refuses_roads(self, call, after=()):
+        """The call raises the errors of two worlds of SIX, the first within the second."""
+        self.refuses_bad_worlds(call, [SIX], [(), *after])
+        self.refuses_bad_worlds(call, [SIX, SINGLES], after)
+        low = (("f",), ("a",), ("e", "b"), ("d",), ("c",))
+        high = (("f", "e"), ("a",), ("b", "d"), ("c",))
+        self.refuses(NotWithin, {"pair": ("e", "b")}, call, SIX, low, high, *after)
+        self.refuses(NotWithin, {"pair": ("f", "e")}, call, SIX, high, low, *after)
 
 
 def all_partings(pond):
@@ -219,6 +228,73 @@ def histories_by_words(pond, start, end):
     ]
 
 
+def rows_between(pond, lower, upper):
+    """The same, but only deeds that stay within the end are tried."""
+    if lower == upper:
+        return [[]]
+    return [
+        [deed, *row]
+        for deed, after in deeds_from(pond, lower)
+        if lies_within(after, upper)
+        for row in rows_between(pond, after, upper)
+    ]
+
+
+def passed_by(pond, start, row):
+    """The worlds that a row of deeds passes, the start included."""
+    worlds = [start]
+    for x, y in row:
+        worlds.append(joined(pond, worlds[-1], x, y))
+    return worlds
+
+
+def inner_by_words(pond, lower, upper):
+    """Point 29 as it stands."""
+    groups = []
+    for lot in pond.names:
+        for group in groups:
+            if on_one_inner_path(pond, lower, upper, group[0], lot):
+                group.append(lot)
+                break
+        else:
+            groups.append([lot])
+    return sorted_parting(pond, groups)
+
+
+def on_one_inner_path(pond, lower, upper, first, second):
+    if not is_together(upper, first, second):
+        return False
+    whole = [field for field in upper if first in field][0]
+    inside = [lot for lot in lots_after(pond, first, second) if lot in whole]
+    return not any(
+        any(lot in inside for lot in field)
+        and any(lot in whole and lot not in inside for lot in field)
+        for field in lower
+    )
+
+
+def smalls_by_words(pond, lower, upper):
+    """Point 30 as it stands."""
+    return [
+        tuple([field[0] for field in lower if any(lot in path for lot in field)])
+        for path in inner_by_words(pond, lower, upper)
+    ]
+
+
+def small_by_words(lots, world):
+    """Point 31: the parting of the lots in which the same ones are together."""
+    groups = [[lot for lot in field if lot in lots] for field in world]
+    return sorted_parting(Pond(lots), [group for group in groups if group])
+
+
+def worlds_between(pond, lower, upper):
+    """Point 31: the worlds over the one and within the other, in no promised order."""
+    return [
+        world for world in all_worlds(pond)
+        if lies_within(lower, world) and lies_within(world, upper)
+    ]
+
+
 SIX = Pond(["f", "a", "e", "b", "d", "c"], strifes=[("e", "d"), ("f", "c")])
 SINGLES = (("f",), ("a",), ("e",), ("b",), ("d",), ("c",))
 
@@ -233,6 +309,26 @@ BAD_WORLDS = [
     ((("f",), ("a",), ("e", "b", "d"), ("c",)), AtStrife, {"pair": ("e", "d")}),
     ((("f", "a", "e", "b", "d", "c"),), AtStrife, {"pair": ("f", "c")}),
 ]
+
+# Of these worlds of SIX the first lies within the second; the small ponds between them are
+# (f, a), (f), (b), (b, c).
+LOW = (("f", "e"), ("a",), ("b", "d"), ("c",))
+HIGH = (("f", "a", "e"), ("b", "d", "c"))
+
+ALONE = Pond(["a"])
+ONLY = (("a",),)
+
+TEN = Pond(["j", "i", "h", "g", "f", "e", "d", "c", "b", "a"])
+WHOLE = (TEN.names,)
+TEN_SINGLES = tuple([(lot,) for lot in TEN.names])
+# The small ponds from this world to WHOLE are (j, i), (i, h), (j, e, d), (d, c, b).
+TEN_WORLD = (("j", "f"), ("i", "g"), ("h",), ("e",), ("d", "a"), ("c",), ("b",))
+
+
+def one_field(many):
+    """The world of TEN in which the first lots are one field and the others are single."""
+    return (TEN.names[:many], *TEN_SINGLES[many:])
+
 
 WITH_STRIFES = [
     Pond(["b", "a"], strifes=[("a", "b")]),

@@ -11,16 +11,12 @@ from hedgejoin.errors import BadParting, Crossing, OutOfRange, TooMany
 from hedgejoin.fields import sizes_of
 from hedgejoin.ponds import Pond
 from tests.helpers import (
-    HUGE, SINGLES, SIX, WITH_STRIFES, PromiseCase, code_of, has_strife, small_ponds,
-    uncrossed_partings,
+    ALONE, HUGE, SINGLES, SIX, TEN, TEN_SINGLES, WITH_STRIFES, PromiseCase, code_of, has_strife,
+    small_ponds, uncrossed_partings,
 )
 
 WORLDS_OF = [1, 1, 2, 5, 14, 42, 132, 429, 1430, 4862, 16796]
-WORLD = (("f", "e"), ("a",), ("b", "d"), ("c",))
-ALONE = Pond(["a"])
 TWO = Pond(["b", "a"], strifes=[("a", "b")])
-TEN = Pond(["j", "i", "h", "g", "f", "e", "d", "c", "b", "a"])
-TEN_SINGLES = tuple([(lot,) for lot in TEN.names])
 NO_PARTING = (("a",), ("f", "e"), ("b", "d"), ("c",))
 CROSSING = (("f", "b"), ("a",), ("e", "d"), ("c",))
 

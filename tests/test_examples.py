@@ -95,6 +95,18 @@ EXAMPLES = {
 >>> small_ponds(pond, lower, upper)
 [('a', 'b'), ('b', 'c'), ('e',)]
 ''',
+    "bridges.py": '''
+>>> from hedgejoin.ponds import Pond
+>>> from hedgejoin.bridges import kin_distance, sorting_bridge
+>>> pond = Pond(["a", "b", "c", "d"])
+>>> lower = (("a",), ("b",), ("c",), ("d",))
+>>> upper = (("a", "b"), ("c", "d"))
+>>> first = [("c", "d"), ("a", "b")]
+>>> sorting_bridge(pond, lower, upper, first)
+[(0, 1)]
+>>> kin_distance(pond, lower, upper, first, [("b", "a"), ("c", "d")])
+1
+''',
 }
 
 

@@ -11,19 +11,15 @@ from hedgejoin.roads import (
 )
 from hedgejoin.rows import is_history, replay
 from tests.helpers import (
-    BAD_WORLDS, SINGLES, SIX, WITH_STRIFES, PromiseCase, all_partings, all_roads, all_worlds,
-    code_of, deeds_from, fours_in_order, has_strife, histories_by_words, is_together,
-    is_uncrossed, lies_within, pairs_in_order, small_ponds,
+    ALONE, BAD_WORLDS, SINGLES, SIX, TEN, TEN_SINGLES, TEN_WORLD, WITH_STRIFES, PromiseCase,
+    all_partings, all_roads, all_worlds, code_of, deeds_from, fours_in_order, has_strife,
+    histories_by_words, is_together, is_uncrossed, lies_within, pairs_in_order, small_ponds,
 )
 
 START = (("f", "e"), ("a",), ("b", "d"), ("c",))
 END = (("f", "a", "e"), ("b", "d", "c"))
 # START is not within ASIDE: f, e are together in START and apart in ASIDE.
 ASIDE = (("f", "a"), ("e",), ("b",), ("d",), ("c",))
-ALONE = Pond(["a"])
-TEN = Pond(["j", "i", "h", "g", "f", "e", "d", "c", "b", "a"])
-TEN_SINGLES = tuple([(lot,) for lot in TEN.names])
-TEN_WORLD = (("j", "f"), ("i", "g"), ("h",), ("e",), ("d", "a"), ("c",), ("b",))
 BAD_START = (("a",),)
 FOUR = Pond(["a", "b", "c", "d"], strifes=[("c", "a"), ("b", "d")])
 FOUR_SINGLES = (("a",), ("b",), ("c",), ("d",))

@@ -13,8 +13,9 @@ from hedgejoin.smalls import (
     deed_small, inner_paths, small_deed, small_ponds, split_world, unite_world,
 )
 from tests.helpers import (
-    SINGLES, SIX, PromiseCase, all_roads, all_worlds, deeds_from, is_together,
-    lies_within, lots_after, sorted_parting, uncrossed_partings,
+    ALONE, HIGH, LOW, SINGLES, SIX, TEN, TEN_SINGLES, TEN_WORLD, PromiseCase, all_roads, deeds_from,
+    inner_by_words, lies_within, small_by_words, smalls_by_words, uncrossed_partings,
+    worlds_between,
 )
 
 FIVE = Pond(["a", "b", "c", "d", "e"], strifes=[("a", "e")])
@@ -23,61 +24,8 @@ UPPER = (("a", "b", "c", "d"), ("e",))
 SMALLS = [("a", "b"), ("b", "c"), ("e",)]
 MIDDLE = (("a", "b", "d"), ("c",), ("e",))
 FIVE_SINGLES = (("a",), ("b",), ("c",), ("d",), ("e",))
-# Of these worlds of SIX, the first lies within the second.
-LOW = (("f", "e"), ("a",), ("b", "d"), ("c",))
-HIGH = (("f", "a", "e"), ("b", "d", "c"))
 ASIDE = (("f", "a"), ("e",), ("b",), ("d",), ("c",))
 NO_WORLD = (("a",),)
-ALONE = Pond(["a"])
-TEN = Pond(["j", "i", "h", "g", "f", "e", "d", "c", "b", "a"])
-TEN_SINGLES = tuple([(lot,) for lot in TEN.names])
-TEN_WORLD = (("j", "f"), ("i", "g"), ("h",), ("e",), ("d", "a"), ("c",), ("b",))
-
-
-def inner_by_words(pond, lower, upper):
-    """Point 29 as it stands."""
-    groups = []
-    for lot in pond.names:
-        for group in groups:
-            if on_one_inner_path(pond, lower, upper, group[0], lot):
-                group.append(lot)
-                break
-        else:
-            groups.append([lot])
-    return sorted_parting(pond, groups)
-
-
-def on_one_inner_path(pond, lower, upper, first, second):
-    if not is_together(upper, first, second):
-        return False
-    whole = [field for field in upper if first in field][0]
-    inside = [lot for lot in lots_after(pond, first, second) if lot in whole]
-    return not any(
-        any(lot in inside for lot in field)
-        and any(lot in whole and lot not in inside for lot in field)
-        for field in lower
-    )
-
-
-def smalls_by_words(pond, lower, upper):
-    """Point 30 as it stands."""
-    return [
-        tuple([field[0] for field in lower if any(lot in path for lot in field)])
-        for path in inner_by_words(pond, lower, upper)
-    ]
-
-
-def small_by_words(lots, world):
-    """Point 31: the parting of the lots in which the same ones are together."""
-    groups = [[lot for lot in field if lot in lots] for field in world]
-    return sorted_parting(Pond(lots), [group for group in groups if group])
-
-
-def worlds_between(pond, lower, upper):
-    return [
-        world for world in all_worlds(pond)
-        if lies_within(lower, world) and lies_within(world, upper)
-    ]
 
 
 class TestSmallPonds(PromiseCase):

@@ -13,15 +13,11 @@ from hedgejoin.tree import (
     branches, bring_together, deed_path, distance, from_tree, is_way, parted_path, tree_rows, way,
 )
 from tests.helpers import (
-    HUGE, SINGLES, SIX, WITH_STRIFES, PromiseCase, all_cases, code_of, has_strife, is_together,
-    lies_within, paths_by_words, small_ponds, uncrossed_partings,
+    ALONE, HUGE, SINGLES, SIX, TEN, TEN_SINGLES, TEN_WORLD, WITH_STRIFES, PromiseCase, all_cases,
+    code_of, has_strife, is_together, lies_within, paths_by_words, small_ponds, uncrossed_partings,
 )
 
 WORLD = (("f", "e"), ("a",), ("b", "d"), ("c",))
-TEN = Pond(["j", "i", "h", "g", "f", "e", "d", "c", "b", "a"])
-TEN_SINGLES = tuple([(lot,) for lot in TEN.names])
-TEN_WORLD = (("j", "f"), ("i", "g"), ("h",), ("e",), ("d", "a"), ("c",), ("b",))
-ALONE = Pond(["a"])
 TWO = Pond(["b", "a"], strifes=[("a", "b")])
 
 
