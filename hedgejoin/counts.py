@@ -1,10 +1,9 @@
 """Numbers and ranks of uncrossed partings.
 
 A lot that follows others in the shore order either begins a new field or joins
-a field that is still reachable: one whose last lot no other reachable field
-encloses. The marks of the reachable fields ascend, and if the lot joins one of
-them, those with greater marks are closed off. So only the number of reachable
-fields matters for what can follow.
+one that is still reachable. If it joins one, all fields with greater marks are
+closed off, as a later lot in them would make them cross it. So the marks of the
+reachable fields ascend, and only their number matters for what can follow.
 """
 
 from math import comb, factorial
