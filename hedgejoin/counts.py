@@ -25,8 +25,8 @@ def count_worlds(size, *, fields=None):
 
 def count_with(size, fields):
     """The number of uncrossed partings with exactly this number of fields."""
-    if fields == 0 or size == 0:
-        return 1 if fields == size else 0
+    if fields == 0:
+        return 1 if size == 0 else 0
     if fields < 0 or fields > size:
         return 0
     return comb(size, fields) * comb(size, fields - 1) // size
