@@ -15,7 +15,7 @@ def by_marks(pond, marks):
     fields = {}
     for lot, mark in zip(pond.names, marks):
         fields.setdefault(mark, []).append(lot)
-    return tuple([tuple(field) for field in fields.values()])
+    return tuple([tuple(fields[mark]) for mark in fields])
 
 
 def marks_of(pond, parting):
@@ -76,10 +76,13 @@ def first_strife(pond, parting):
 
 def strife_of(pond, parting):
     """What first_strife returns for what is known to be a parting."""
-    for pair in pond.strifes:
-        if any([pair[0] in field and pair[1] in field for field in parting]):
-            return pair
-    return None
+    found = pairs_in(parting, pond.strifes)
+    return found[0] if len(found) > 0 else None
+
+
+def pairs_in(parting, pairs):
+    """Those of the pairs of lots that are together in the parting."""
+    return [(x, y) for x, y in pairs if any([x in field and y in field for field in parting])]
 
 
 def check_uncrossed(pond, parting):

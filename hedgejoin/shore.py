@@ -51,6 +51,16 @@ def place_pairs(size):
     return [(low, high) for low in range(size) for high in range(low + 1, size)]
 
 
+def place_lists(size):
+    """All ascending lists of different positions, the shorter ones first, in order."""
+    lists = []
+    longest = [[]]
+    while len(longest) > 0:
+        lists = [*lists, *longest]
+        longest = [[*row, at] for row in longest for at in range(size) if at > max(row, default=-1)]
+    return lists
+
+
 def crossing_places(one, two):
     """The first a < b < c < d with a and c in one row of positions and b and d in the other.
 

@@ -62,22 +62,22 @@ def small_world(lots, world):
 def unite_world(pond, lower, upper, worlds):
     """The world between the two that has these small worlds."""
     check_road(pond, lower, upper)
-    check_split(small_lots(pond, lower, upper), worlds)
+    check_split([Pond(lots) for lots in small_lots(pond, lower, upper)], worlds)
     return united_world(pond, lower, worlds)
 
 
-def check_split(smalls, worlds):
-    """Raise BadSplit if these are not one world for each small pond."""
-    check_number(smalls, worlds)
-    for place, lots in enumerate(smalls):
-        if not is_world(Pond(lots), worlds[place]):
+def check_split(ponds, worlds):
+    """Raise BadSplit if these are not one world for each of the ponds."""
+    check_number(ponds, worlds)
+    for place, small in enumerate(ponds):
+        if not is_world(small, worlds[place]):
             raise BadSplit(place)
 
 
-def check_number(smalls, given):
-    """Raise BadSplit if there is not one item for each small pond."""
-    if len(given) != len(smalls):
-        raise BadSplit(min(len(given), len(smalls)))
+def check_number(ponds, given):
+    """Raise BadSplit if there is not one item for each of the ponds."""
+    if len(given) != len(ponds):
+        raise BadSplit(min(len(given), len(ponds)))
 
 
 def united_world(pond, lower, worlds):

@@ -10,20 +10,25 @@ HUGE = 10 ** 5000
 
 def shown(value):
     """The value with the exact kind of each of its parts, so that 1, True and [1] differ."""
-    if isinstance(value, Pond):
-        return ("Pond", shown(value.names), shown(value.strifes))
+    if is_own(value):
+        parts = [name for name, item in vars(type(value)).items() if isinstance(item, property)]
+        parts += [name for name in vars(value) if not name.startswith("_")]
+        return (type(value).__name__, [(name, shown(getattr(value, name))) for name in parts])
     if isinstance(value, (list, tuple)):
         return (type(value).__name__, [shown(item) for item in value])
     if isinstance(value, dict):
         return ("dict", [(shown(key), shown(value[key])) for key in value])
-    if hasattr(value, "key") and hasattr(value, "size"):
-        return ("Likeness", shown(value.size), shown(value.key))
     return (type(value).__name__, value)
 
 
+def is_own(value):
+    """True for an object of the program; its properties tell all that is promised of it."""
+    return type(value).__module__.startswith("hedgejoin.")
+
+
 def fresh_parts(value):
-    """The lists and ponds in a value: what must be another object in each result."""
-    if isinstance(value, Pond):
+    """The lists and objects in a value: what must be another object in each result."""
+    if is_own(value):
         return [value]
     if isinstance(value, (list, tuple)):
         inner = [part for item in value for part in fresh_parts(item)]
@@ -293,6 +298,37 @@ def worlds_between(pond, lower, upper):
         world for world in all_worlds(pond)
         if lies_within(lower, world) and lies_within(world, upper)
     ]
+
+
+def over(pond, groups):
+    """The uncrossed partings of the pond in which each group lies in one field."""
+    return [
+        parting for parting in uncrossed_partings(pond)
+        if all(any(set(group) <= set(field) for field in parting) for group in groups)
+    ]
+
+
+def least_of(partings):
+    """The one of the partings that lies within all of them."""
+    return [one for one in partings if all(lies_within(one, other) for other in partings)][0]
+
+
+def closing_by_words(pond, groups):
+    """Point 37: the smallest uncrossed parting in which each group lies in one field."""
+    return least_of(over(pond, groups))
+
+
+def by_code(pond, partings):
+    return sorted(partings, key=lambda parting: code_of(pond, parting))
+
+
+def turned(pair):
+    return (pair[1], pair[0])
+
+
+def some_of(items, rng, many):
+    """Many of the items, by chance but always the same ones; all if there are not more."""
+    return rng.sample(items, many) if len(items) > many else list(items)
 
 
 SIX = Pond(["f", "a", "e", "b", "d", "c"], strifes=[("e", "d"), ("f", "c")])

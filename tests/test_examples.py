@@ -107,6 +107,62 @@ EXAMPLES = {
 >>> kin_distance(pond, lower, upper, first, [("b", "a"), ("c", "d")])
 1
 ''',
+    "commons.py": '''
+>>> from hedgejoin.ponds import Pond
+>>> from hedgejoin.commons import close, is_why
+>>> pond = Pond(["a", "b", "c", "d", "e"])
+>>> close(pond, (("a", "c"), ("b", "d"), ("e",)))
+(('a', 'b', 'c', 'd'), ('e',))
+>>> reasons = [("given", 0, "a", "c"), ("given", 0, "b", "d"), ("crossed", 0, 1, "c", "b")]
+>>> is_why(pond, [(("a", "c"), ("b", "d"), ("e",))], "b", "c", reasons)
+True
+''',
+    "strifes.py": '''
+>>> from hedgejoin.ponds import Pond
+>>> from hedgejoin.strifes import costly_deeds, row_counts
+>>> pond = Pond(["a", "b", "c", "d"], strifes=[("a", "b"), ("c", "d")])
+>>> singles = (("a",), ("b",), ("c",), ("d",))
+>>> row_counts(pond, singles)
+[1, 4, 2]
+>>> costly_deeds(pond, singles)
+[(('a', 'c'), 3), (('b', 'd'), 3)]
+''',
+    "pieces.py": '''
+>>> from hedgejoin.ponds import Pond
+>>> from hedgejoin.pieces import arcs, gaps
+>>> pond = Pond(["a", "b", "c", "d", "e"])
+>>> arcs(pond, ["d", "b"])
+[('c', 'd'), ('e', 'a', 'b')]
+>>> gaps(pond, ["b", "c"])
+[('d', 'e', 'a')]
+''',
+    "orders.py": '''
+>>> from hedgejoin.ponds import Pond
+>>> from hedgejoin.orders import format_order, parse_order, run_order
+>>> order = parse_order("each A do if open a A do join a A end end")
+>>> order
+(('each', 'A', (('if', ('open', 'a', 'A'), (('join', 'a', 'A'),), ()),)),)
+>>> format_order(parse_order("until not together a b do clear a end"))
+'while together a b do clear a end'
+>>> pond = Pond(["a", "b", "c"], strifes=[("b", "c")])
+>>> run_order(pond, (("a",), ("b",), ("c",)), order)
+((('a', 'b'), ('c',)), [('a', 'b')])
+''',
+    "book.py": '''
+>>> from hedgejoin.ponds import Pond
+>>> from hedgejoin.book import Book, audit
+>>> book = Book(Pond(["a", "b", "c"]))
+>>> book.come("d", after="a")
+0
+>>> book.deed("c", "a")
+1
+>>> book.world
+(('a', 'c'), ('d',), ('b',))
+>>> book.history()
+[('a', 'c')]
+>>> audit(Pond(["a", "b"]), (("a",), ("b",)), [("lay", "a", "b"), ("deed", "a", "b")])
+1
+''',
 }
 
 
