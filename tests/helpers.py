@@ -210,6 +210,23 @@ def joined(pond, parting, x, y):
     return sorted_parting(pond, [*rest, both])
 
 
+def deed_cause(pond, world, x, y):
+    """Point 19 as it stands: the cause for which the deed is refused, or None."""
+    for name in (x, y):
+        if name not in pond.names:
+            return ("unknown", name)
+    if is_together(world, x, y):
+        return ("same", (x, y))
+    one, two = [[field for field in world if lot in field][0] for lot in (x, y)]
+    for field in world:
+        if field not in (one, two) and do_cross(pond, field, one + two):
+            return ("crossed", field)
+    for strife in pond.strifes:
+        if is_together([one + two], *strife):
+            return ("strife", strife)
+    return None
+
+
 def deeds_from(pond, world):
     """Point 19: each plain deed that stands, in pair order, with the world after it."""
     found = []

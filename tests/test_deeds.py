@@ -10,7 +10,7 @@ from hedgejoin.errors import (
 )
 from hedgejoin.ponds import Pond
 from tests.helpers import (
-    PromiseCase, all_worlds, code_of, do_cross, pairs_in_order, small_ponds,
+    PromiseCase, all_worlds, code_of, deed_cause, joined, pairs_in_order, small_ponds,
 )
 
 SIX = Pond(["f", "a", "e", "b", "d", "c"], strifes=[("c", "f"), ("b", "a"), ("e", "d"), ("a", "d")])
@@ -30,33 +30,6 @@ def refuses_no_world(case, entry, *more):
     case.refuses(BadParting, {}, entry, SIX, (), *more)
     case.refuses(Crossing, {"lots": ("f", "a", "e", "b")}, entry, SIX, CROSSING, *more)
     case.refuses(AtStrife, {"pair": ("f", "c")}, entry, SIX, WITH_STRIFE, *more)
-
-
-def expected_cause(pond, world, x, y):
-    """Point 19 as it stands."""
-    for name in (x, y):
-        if name not in pond.names:
-            return ("unknown", name)
-    one = [field for field in world if x in field][0]
-    two = [field for field in world if y in field][0]
-    if one == two:
-        return ("same", (x, y))
-    joined = one + two
-    for field in world:
-        if field not in (one, two) and do_cross(pond, joined, field):
-            return ("crossed", field)
-    for first, second in pond.strifes:
-        if first in joined and second in joined:
-            return ("strife", (first, second))
-    return None
-
-
-def expected_join(pond, world, x, y):
-    """The fields of x and y as one, in the form of point 11."""
-    joined = [lot for field in world if x in field or y in field for lot in field]
-    fields = [field for field in world if x not in field and y not in field]
-    fields.append(tuple([lot for lot in pond.names if lot in joined]))
-    return tuple(sorted(fields, key=lambda field: pond.names.index(field[0])))
 
 
 def ponds_with_strifes():
@@ -132,7 +105,7 @@ class TestRefusal(PromiseCase):
             for world in all_worlds(pond):
                 for x in (*pond.names, "x"):
                     for y in (*pond.names, "y"):
-                        expected = expected_cause(pond, world, x, y)
+                        expected = deed_cause(pond, world, x, y)
                         self.assertEqual(refusal(pond, world, x, y), expected)
 
 
@@ -157,8 +130,8 @@ class TestJoin(PromiseCase):
         for pond in ponds_with_strifes():
             for world in all_worlds(pond):
                 for x, y in pairs_in_order(pond):
-                    if expected_cause(pond, world, x, y) is None:
-                        expected = expected_join(pond, world, x, y)
+                    if deed_cause(pond, world, x, y) is None:
+                        expected = joined(pond, world, x, y)
                         self.assertEqual(join(pond, world, x, y), expected)
                         self.assertEqual(join(pond, world, y, x), expected)
 
@@ -209,7 +182,7 @@ class TestDeeds(PromiseCase):
             for world in all_worlds(pond):
                 firsts = [field[0] for field in world]
                 plain = [(x, y) for at, x in enumerate(firsts) for y in firsts[at + 1:]]
-                causes = [(deed, expected_cause(pond, world, *deed)) for deed in plain]
+                causes = [(deed, deed_cause(pond, world, *deed)) for deed in plain]
                 standing = [deed for deed, cause in causes if cause is None]
                 others = [(deed, cause) for deed, cause in causes if cause is not None]
                 self.assertEqual(deeds(pond, world), standing)
@@ -240,8 +213,8 @@ class TestPasts(PromiseCase):
                 before = [
                     past for past in worlds
                     if any(
-                        expected_cause(pond, past, x, y) is None
-                        and expected_join(pond, past, x, y) == world
+                        deed_cause(pond, past, x, y) is None
+                        and joined(pond, past, x, y) == world
                         for x, y in pairs_in_order(pond)
                     )
                 ]

@@ -314,7 +314,8 @@ class TestDiary(PromiseCase):
         self.gives(None, diary.first_unfit)
 
     def test_is_wrong_set(self):
-        diary = diary_of(THREE, 2, sightings=[(0, "together", "a", "b"), (1, "apart", "a", "b"), (1, "apart", "c", "b")])
+        told = [(0, "together", "a", "b"), (1, "apart", "a", "b"), (1, "apart", "c", "b")]
+        diary = diary_of(THREE, 2, sightings=told)
         self.gives(False, diary.is_wrong_set, [])
         self.gives(False, diary.is_wrong_set, ())
         self.gives(True, diary.is_wrong_set, [0])
@@ -422,7 +423,8 @@ class TestRunsByTheirWords(PromiseCase):
 
 class TestLeastRun(PromiseCase):
     def test_least_run(self):
-        sightings = [(1, "together", "e", "c"), (0, "apart", "c", "e"), (2, "apart", "b", "a"), (3, "together", "a", "c")]
+        sightings = [(1, "together", "e", "c"), (0, "apart", "c", "e"), (2, "apart", "b", "a"),
+                     (3, "together", "a", "c")]
         first = (("c",), ("a",), ("e",), ("b", "d"))
         second = (("c", "e"), ("a",), ("b", "d"))
         last = (("c", "a", "e"), ("b", "d"))

@@ -13,7 +13,7 @@ from hedgejoin.ponds import Pond
 from hedgejoin.rows import replay
 from tests.helpers import (
     ALONE, ONLY, SINGLES, SIX, TEN, TEN_SINGLES, WHOLE, WITH_STRIFES, PromiseCase, all_worlds,
-    by_code, do_cross, is_together, joined, on_one_path, pairs_in_order, shown, small_ponds,
+    by_code, deed_cause, is_together, joined, on_one_path, pairs_in_order, shown, small_ponds,
 )
 
 FIVE = Pond(["c", "a", "e", "b", "d"], strifes=[("c", "d"), ("a", "b")])
@@ -138,23 +138,6 @@ class Halt(Exception):
         self.told = told
 
 
-def cause_by_words(pond, world, x, y):
-    """Point 19 as it stands."""
-    for name in (x, y):
-        if name not in pond.names:
-            return ("unknown", name)
-    if is_together(world, x, y):
-        return ("same", (x, y))
-    one, two = [[field for field in world if lot in field][0] for lot in (x, y)]
-    for field in world:
-        if field not in (one, two) and do_cross(pond, field, one + two):
-            return ("crossed", field)
-    for strife in pond.strifes:
-        if is_together([one + two], *strife):
-            return ("strife", strife)
-    return None
-
-
 class PlainRun:
     """Point 47 as it stands."""
 
@@ -168,7 +151,7 @@ class PlainRun:
             getattr(self, "do_" + statement[0])(statement, (*place, at), held)
 
     def deed(self, x, y, place):
-        cause = cause_by_words(self.pond, self.world, x, y)
+        cause = deed_cause(self.pond, self.world, x, y)
         if cause is not None:
             raise Halt("refused", place, cause)
         self.deeds.append(tuple([field[0] for field in self.world if x in field or y in field]))
@@ -201,7 +184,7 @@ class PlainRun:
         self.known(lots, place)
         if test[0] == "together":
             return is_together(self.world, *lots)
-        return cause_by_words(self.pond, self.world, *lots) is None
+        return deed_cause(self.pond, self.world, *lots) is None
 
     def do_if(self, statement, place, held):
         branch = 0 if self.holds(statement[1], place, held) else 1
