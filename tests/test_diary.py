@@ -244,6 +244,14 @@ class TestDiary(PromiseCase):
         self.gives(None, diary.first_unfit)
         self.gives([], diary.least_wrong)
 
+    def test_each_gap_counts_from_the_world_before_it(self):
+        diary = diary_of(THREE, 3, bounds=[(1, 1), (0, 0)])
+        first = (("c", "a"), ("b",))
+        self.gives([first, THREE_WHOLE, THREE_WHOLE], diary.run)
+        diary = diary_of(THREE, 4, start=THREE_SINGLES, bounds=[(1, None), (0, 0), (1, None)])
+        self.gives([THREE_SINGLES, first, first, THREE_WHOLE], diary.run)
+        self.gives(3, diary.count_runs)
+
     def test_no_run(self):
         diary = diary_of(THREE, 2, sightings=[
             (0, "apart", "a", "b"), (0, "together", "a", "c"), (1, "apart", "c", "a"), (1, "together", "a", "b"),
