@@ -44,6 +44,28 @@ class TestLanguage(unittest.TestCase):
                     allowed = LIBRARY.get(node.module, set())
                     self.assertLessEqual({name.name for name in node.names}, allowed, path)
 
+    def test_no_two_files_import_from_each_other(self):
+        sources = {
+            f"hedgejoin.{path.stem}": {node.module for node in tree.body if isinstance(node, ast.ImportFrom)}
+            for path, tree in trees()
+        }
+        waiting = dict(sources)
+        while waiting:
+            free = [name for name, needed in waiting.items() if not needed & set(waiting)]
+            self.assertTrue(free, sorted(waiting))
+            waiting = {name: needed for name, needed in waiting.items() if name not in free}
+
+    def test_imported_names_are_defined_where_they_are_imported_from(self):
+        defined = {}
+        for path, tree in trees():
+            names = {node.name for node in tree.body if isinstance(node, (ast.FunctionDef, ast.ClassDef))}
+            names |= {target.id for node in tree.body if isinstance(node, ast.Assign) for target in node.targets}
+            defined[f"hedgejoin.{path.stem}"] = names
+        for path, tree in trees():
+            for node in tree.body:
+                if isinstance(node, ast.ImportFrom) and node.module in defined:
+                    self.assertLessEqual({name.name for name in node.names}, defined[node.module], path)
+
     def test_only_listed_builtins(self):
         names = builtin_names()
         for path, tree in trees():
